@@ -6,15 +6,16 @@ import (
 	"testing"
 
 	"reverie/api"
+	"reverie/made"
 )
 
 // TestDeepTexts has lists in lists as deep as there may be: main's is one, so that 39 are left.
 func TestDeepTexts(t *testing.T) {
 	checkMains(t, [][2]string{
-		{inside(39, "(+ 1 @)", "1"), "40"}, {inside(39, "(+ @ 1)", "1"), "40"}, {inside(39, "(id @)", "5"), "5"}, {inside(39, "(k @ 1)", "5"), "5"}, {inside(39, "(S @)", "Z"), nested(39)}, {inside(39, "(Cons 7 @)", "Nil"), inside(39, "(Cons 7 @)", "Nil")},
-		{inside(37, "(let ((x 1)) @)", "x"), "1"}, {inside(13, "(let ((x @)) (+ x 1))", "5"), "18"}, {inside(19, "((fn (x) @) 5)", "x"), "5"}, {inside(19, "(case 5 (x @))", "x"), "5"}, {inside(19, "(case 5 (5 @))", "6"), "6"}, {inside(19, "(case (S @) ((S x) x))", "Z"), "Z"},
-		{"(case " + inside(36, "(S @)", "(S Z)") + " (" + inside(36, "(S @)", "(S x)") + " x))", "Z"}, {"(case " + inside(37, "(S @)", "Z") + " (" + inside(37, "(S @)", "Z") + " 1))", "1"}, {"(case " + inside(36, "(S @)", "Z") + " (" + inside(37, "(S @)", "x") + " 1) (_ 2))", "2"},
-		{"(case " + inside(37, "(P @ 1)", "2") + " (" + inside(37, "(P @ 1)", "x") + " x))", "2"}, {"(case " + inside(37, "(P 1 @)", "2") + " (" + inside(37, "(P 1 @)", "3") + " 1) (" + inside(37, "(P 1 @)", "2") + " 2))", "2"}, {"(case " + inside(37, "(P 1 @)", "(/ 1 0)") + " (" + inside(37, "(P 1 @)", "x") + " 3))", "3"},
+		{made.Inside(39, "(+ 1 @)", "1"), "40"}, {made.Inside(39, "(+ @ 1)", "1"), "40"}, {made.Inside(39, "(id @)", "5"), "5"}, {made.Inside(39, "(k @ 1)", "5"), "5"}, {made.Inside(39, "(S @)", "Z"), nested(39)}, {made.Inside(39, "(Cons 7 @)", "Nil"), made.Inside(39, "(Cons 7 @)", "Nil")},
+		{made.Inside(37, "(let ((x 1)) @)", "x"), "1"}, {made.Inside(13, "(let ((x @)) (+ x 1))", "5"), "18"}, {made.Inside(19, "((fn (x) @) 5)", "x"), "5"}, {made.Inside(19, "(case 5 (x @))", "x"), "5"}, {made.Inside(19, "(case 5 (5 @))", "6"), "6"}, {made.Inside(19, "(case (S @) ((S x) x))", "Z"), "Z"},
+		{"(case " + made.Inside(36, "(S @)", "(S Z)") + " (" + made.Inside(36, "(S @)", "(S x)") + " x))", "Z"}, {"(case " + made.Inside(37, "(S @)", "Z") + " (" + made.Inside(37, "(S @)", "Z") + " 1))", "1"}, {"(case " + made.Inside(36, "(S @)", "Z") + " (" + made.Inside(37, "(S @)", "x") + " 1) (_ 2))", "2"},
+		{"(case " + made.Inside(37, "(P @ 1)", "2") + " (" + made.Inside(37, "(P @ 1)", "x") + " x))", "2"}, {"(case " + made.Inside(37, "(P 1 @)", "2") + " (" + made.Inside(37, "(P 1 @)", "3") + " 1) (" + made.Inside(37, "(P 1 @)", "2") + " 2))", "2"}, {"(case " + made.Inside(37, "(P 1 @)", "(/ 1 0)") + " (" + made.Inside(37, "(P 1 @)", "x") + " 3))", "3"},
 	})
 }
 
@@ -26,8 +27,8 @@ func TestLargeTexts(t *testing.T) {
 		want = fmt.Sprintf("(Cons %d %s)", 89-i, want)
 	}
 	checkProgram(t, "(data List (a) (Nil) (Cons a (List a))) "+list+"(def l90 () Nil)", want)
-	checkProgram(t, again(99, "(def f# (x y) (+ x y)) ")+"(def main () (f98 (f0 1 2) (f50 3 4)))", "10")
-	cons := "(data C () " + again(100, "(C#) ") + ") "
+	checkProgram(t, made.Numbered(99, "(def f# (x y) (+ x y)) ")+"(def main () (f98 (f0 1 2) (f50 3 4)))", "10")
+	cons := "(data C () " + made.Numbered(100, "(C#) ") + ") "
 	for i := range 7 {
 		alts := ""
 		for j := range 15 {
@@ -37,7 +38,7 @@ func TestLargeTexts(t *testing.T) {
 	}
 	long := strings.Repeat("1", 18)
 	checkProgram(t, "(def main () (+ "+long+" "+long+"))"+strings.Repeat(" ", api.MaxSource-55), "222222222222222222")
-	sums := inside(37, "(+ (+ (+ 1 2) (+ 3 4)) @)", "1")
+	sums := made.Inside(37, "(+ (+ (+ 1 2) (+ 3 4)) @)", "1")
 	checkProgram(t, strings.Repeat("\n", 10)+"(def main () "+sums+")", "371")
 }
 

@@ -7,6 +7,8 @@ import (
 	"testing"
 
 	"reverie/api"
+	"reverie/made"
+	"reverie/plain"
 	"reverie/show"
 )
 
@@ -25,23 +27,23 @@ func leastFuel(t *testing.T, p api.Program, most int) int {
 }
 
 // checkFuel asks how an outcome hangs on the fuel: with the greatest number, with forty for each word, with just enough, with one less, and with less and less.
-func checkFuel(t *testing.T, p api.Program, want string, c *plain) {
+func checkFuel(t *testing.T, p api.Program, want string, c plain.Words) {
 	t.Helper()
-	most := 40 * c.greatest()
+	most := 40 * c.Greatest()
 	if got := answer(t, p, most); got != want {
 		t.Errorf("%s: %s with %d of fuel, not %s", show.Program(p), brief(got), most, brief(want))
 		return // as more may never be used up
 	}
 	need := leastFuel(t, p, most)
-	if need < c.least() {
-		t.Errorf("%s: takes %d steps, for %d words at least", show.Program(p), need, c.least())
+	if need < c.Least() {
+		t.Errorf("%s: takes %d steps, for %d words at least", show.Program(p), need, c.Least())
 	}
 	for _, fuel := range []int{need, need + 1, need + 2, 2 * need, most, most + 1, 1 << 31, math.MaxInt - 1, math.MaxInt} {
 		if got := answer(t, p, fuel); got != want {
 			t.Errorf("%s: %s with %d of fuel, %d needed: not %s", show.Program(p), brief(got), fuel, need, brief(want))
 		}
 	}
-	for _, fuel := range []int{need - 1, need - 2, need / 2, need / 3, c.least() - 1, 0, -1, -2, -need, math.MinInt + 1, math.MinInt} {
+	for _, fuel := range []int{need - 1, need - 2, need / 2, need / 3, c.Least() - 1, 0, -1, -2, -need, math.MinInt + 1, math.MinInt} {
 		if got := answer(t, p, fuel); fuel < need && got != noFuel {
 			t.Errorf("%s: %s with %d of fuel, %d needed: not %s", show.Program(p), brief(got), fuel, need, noFuel)
 		}
@@ -52,9 +54,9 @@ func checkFuel(t *testing.T, p api.Program, want string, c *plain) {
 func checkFuelOf(t *testing.T, s, want string) {
 	t.Helper()
 	p := parsed(t, s)
-	plain, c := plainly(p, 200000)
-	if plain != want {
-		t.Fatalf("%s: the plain way says %s, the test %s", s, brief(plain), brief(want))
+	told, c := plain.Run(p, 200000)
+	if told != want {
+		t.Fatalf("%s: the plain way says %s, the test %s", s, brief(told), brief(want))
 	}
 	checkFuel(t, p, want, c)
 }
@@ -77,36 +79,28 @@ func TestFuel(t *testing.T) {
 	}
 }
 
-// inside is a text some times in itself, in the place of @, and another one innermost.
-func inside(times int, s, last string) string {
-	for range times {
-		last = strings.Replace(s, "@", last, 1)
-	}
-	return last
-}
-
 // TestEachWordTakesSteps has programs in which many words are of one kind, so that it shows if these take no step, or more than forty.
 func TestEachWordTakesSteps(t *testing.T) {
 	for _, row := range [][2]string{
-		{"(let ((x 1)) " + inside(30, "(+ x @)", "x") + ")", "31"},
+		{"(let ((x 1)) " + made.Inside(30, "(+ x @)", "x") + ")", "31"},
 		{"(let ((a 7) (b a) (c b) (d c) (e d) (f e) (g f) (h g)) h)", "7"},
-		{inside(18, "(let ((a b) (b c) (c d) (d e) (e f) (f g) (g h) (h 1)) (+ a @))", "0"), "18"},
-		{inside(35, "(+ 1 @)", "1"), "36"},
-		{inside(18, "(re (cpx @ 1))", "1"), "1"},
-		{inside(18, "(case (= 1 1) (True @) (_ 2))", "1"), "1"},
-		{inside(35, "(id @)", "1"), "1"},
-		{inside(35, "(k @ 2)", "1"), "1"},
-		{"(" + inside(6, "(@ id)", "id") + " 1)", "1"},
-		{inside(18, "((fn (x) @) 1)", "1"), "1"},
-		{inside(35, "(let ((x 1)) @)", "1"), "1"},
-		{inside(18, "(case 1 (_ @))", "1"), "1"},
-		{inside(18, "(case 1 (1 @))", "1"), "1"},
-		{inside(18, "(case (Box @) ((Box x) x))", "1"), "1"},
-		{inside(18, "(case (E 1 2 3 4 5 6 7 8) ((E 1 2 3 4 5 6 7 8) @))", "1"), "1"},
-		{inside(35, "(Box @)", "1"), inside(35, "(Box @)", "1")},
-		{inside(35, "(P 1 @)", "1"), inside(35, "(P 1 @)", "1")},
-		{"(let ((f (fn (a b c d e f g h) a))) " + inside(4, "((((((((f @) 2) 3) 4) 5) 6) 7) 8)", "1") + ")", "1"},
-		{"(let ((f (fn (a b c d e f g h) a))) " + inside(35, "(f @ 2 3 4 5 6 7 8)", "1") + ")", "1"},
+		{made.Inside(18, "(let ((a b) (b c) (c d) (d e) (e f) (f g) (g h) (h 1)) (+ a @))", "0"), "18"},
+		{made.Inside(35, "(+ 1 @)", "1"), "36"},
+		{made.Inside(18, "(re (cpx @ 1))", "1"), "1"},
+		{made.Inside(18, "(case (= 1 1) (True @) (_ 2))", "1"), "1"},
+		{made.Inside(35, "(id @)", "1"), "1"},
+		{made.Inside(35, "(k @ 2)", "1"), "1"},
+		{"(" + made.Inside(6, "(@ id)", "id") + " 1)", "1"},
+		{made.Inside(18, "((fn (x) @) 1)", "1"), "1"},
+		{made.Inside(35, "(let ((x 1)) @)", "1"), "1"},
+		{made.Inside(18, "(case 1 (_ @))", "1"), "1"},
+		{made.Inside(18, "(case 1 (1 @))", "1"), "1"},
+		{made.Inside(18, "(case (Box @) ((Box x) x))", "1"), "1"},
+		{made.Inside(18, "(case (E 1 2 3 4 5 6 7 8) ((E 1 2 3 4 5 6 7 8) @))", "1"), "1"},
+		{made.Inside(35, "(Box @)", "1"), made.Inside(35, "(Box @)", "1")},
+		{made.Inside(35, "(P 1 @)", "1"), made.Inside(35, "(P 1 @)", "1")},
+		{"(let ((f (fn (a b c d e f g h) a))) " + made.Inside(4, "((((((((f @) 2) 3) 4) 5) 6) 7) 8)", "1") + ")", "1"},
+		{"(let ((f (fn (a b c d e f g h) a))) " + made.Inside(35, "(f @ 2 3 4 5 6 7 8)", "1") + ")", "1"},
 	} {
 		checkFuelOf(t, withMain("", row[0]), row[1])
 	}
@@ -121,9 +115,9 @@ func TestGreatTreesTakeSteps(t *testing.T) {
 		s += fmt.Sprintf("(let ((a%d (T a%d a%d))) ", i+2, i+1, i+1)
 	}
 	p := parsed(t, withMain(makers, s+"a11"+strings.Repeat(")", 11)))
-	want, c := plainly(p, 200000)
-	if c.parts != 4095 || c.looked > 200 {
-		t.Fatal("the plain way counts other words:", *c)
+	want, c := plain.Run(p, 200000)
+	if c.Parts != 4095 || c.Looked > 200 {
+		t.Fatal("the plain way counts other words:", c)
 	}
 	checkFuel(t, p, want, c)
 }

@@ -6,9 +6,8 @@ import (
 	"testing"
 
 	"reverie/api"
-	"reverie/infer"
-	"reverie/parse"
-	"reverie/scope"
+	"reverie/made"
+	"reverie/plain"
 	"reverie/sense"
 	"reverie/show"
 )
@@ -22,26 +21,24 @@ const (
 // parsed is a program that has types.
 func parsed(t *testing.T, s string) api.Program {
 	t.Helper()
-	p, pos, e := parse.Program([]byte(s))
-	if e != api.OK {
-		t.Fatalf("%q (%d bytes) is no program: %d at %d", s, len(s), e, pos)
-	}
-	if pos, e := scope.Check(p); e != api.OK {
-		t.Fatalf("%q: a name is wrong: %d at %d", s, e, pos)
-	}
-	if _, pos, e := infer.Types(p); e != api.OK {
-		t.Fatalf("%q: has no types: %d at %d", s, e, pos)
+	p, wrong := made.Read(s)
+	if wrong != "" {
+		t.Fatal(wrong)
 	}
 	return p
 }
 
-// datas are types of all sorts, for the tests' programs, and some functions.
-const datas = "(data List (a) (Nil) (Cons a (List a))) (data P (a b) (P a b)) (data Box (a) (Box a)) (data Nat () (Z) (S Nat)) (data May (a) (No) (Just a)) (data E () (E Int Int Int Int Int Int Int Int)) " +
-	"(def id (x) x) (def k (x y) x) (def fst (p) (case p ((P a b) a))) (def snd (p) (case p ((P a b) b))) (def up (a b) (case (< a b) (True (Cons a (up (+ a 1) b))) (_ Nil))) (def sum (l) (case l (Nil 0) ((Cons x xs) (+ x (sum xs))))) (def nat (n) (case n (0 Z) (_ (S (nat (- n 1)))))) "
+// withMain is a program of types and functions of all sorts, others, and main.
+func withMain(others, main string) string { return made.WithMain(others, main) }
 
-// withMain is a program of the types and functions above, others, and main.
-func withMain(others, main string) string {
-	return datas + others + " (def main () " + main + ")"
+// madeProgram is one that was made; false, if its text is too long.
+func madeProgram(t *testing.T, state, odd int) (api.Program, bool) {
+	t.Helper()
+	s := made.Text(state, made.Rule{Odd: odd, Alts: 3, Deep: 2})
+	if len(s) > api.MaxSource {
+		return api.Program{}, false
+	}
+	return parsed(t, s), true
 }
 
 // clean tells whether each part of a tree is a number, a point or a constructor, and has nothing that such a one has not.
@@ -80,7 +77,7 @@ func answer(t *testing.T, p api.Program, fuel int) string {
 }
 
 // wrong is an error's text.
-func wrong(e api.Errno) string { return fmt.Sprint("error ", int(e)) }
+func wrong(e api.Errno) string { return plain.ErrorText(e) }
 
 // The errors' texts.
 var (
@@ -101,7 +98,7 @@ func checkProgram(t *testing.T, s, want string) {
 func checkWith(t *testing.T, s, want string, fuel int) {
 	t.Helper()
 	if got := answer(t, parsed(t, s), fuel); got != want {
-		t.Errorf("%s: %s with %d of fuel, not %s", strings.TrimPrefix(s, datas), brief(got), fuel, brief(want))
+		t.Errorf("%s: %s with %d of fuel, not %s", strings.TrimPrefix(s, made.Head), brief(got), fuel, brief(want))
 	}
 }
 
@@ -124,15 +121,6 @@ func brief(s string) string {
 		return s[:200] + ".."
 	}
 	return s
-}
-
-// again is a text some times, with numbers for # in it.
-func again(times int, s string) string {
-	var all strings.Builder
-	for i := range times {
-		all.WriteString(strings.ReplaceAll(s, "#", fmt.Sprint(i)))
-	}
-	return all.String()
 }
 
 // replaced is a text with numbers for words in it.

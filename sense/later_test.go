@@ -6,6 +6,7 @@ import (
 	"testing"
 
 	"reverie/api"
+	"reverie/plain"
 )
 
 // The parts of programs such as layers 10 to 13 make.
@@ -49,9 +50,9 @@ func conPat(n string, names ...string) api.Pat {
 func checkBody(t *testing.T, body api.Expr, want string, defs ...api.Def) {
 	t.Helper()
 	p := api.Program{Datas: parsed(t, withMain("", "1")).Datas, Defs: append(defs, api.Def{Name: "main", Body: body})}
-	plain, c := plainly(p, 100000)
-	if plain != want {
-		t.Fatalf("the plain way says %s, the test %s", plain, want)
+	told, c := plain.Run(p, 100000)
+	if told != want {
+		t.Fatalf("the plain way says %s, the test %s", told, want)
 	}
 	checkFuel(t, p, want, c)
 }

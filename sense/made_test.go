@@ -5,6 +5,7 @@ import (
 	"testing"
 
 	"reverie/api"
+	"reverie/plain"
 	"reverie/show"
 )
 
@@ -14,11 +15,11 @@ func TestMadePrograms(t *testing.T) {
 	const most = 20000
 	kinds, texts := map[string]int{}, map[string]int{}
 	for i := range 2500 {
-		p, ok := made(t, i, []int{20, 60, 200, 1000}[i%4])
+		p, ok := madeProgram(t, i, []int{20, 60, 200, 1000}[i%4])
 		if !ok {
 			continue
 		}
-		want, c := plainly(p, most)
+		want, c := plain.Run(p, most)
 		if want == "" { // it takes more words than these
 			if got := answer(t, p, most); got != noFuel {
 				t.Fatalf("%s: %s, not %s", show.Program(p), got, noFuel)
@@ -42,19 +43,19 @@ func TestMoreFuel(t *testing.T) {
 	t.Parallel()
 	held := 0
 	for i := range 400 {
-		p, ok := made(t, 100000+i, []int{20, 60, 200}[i%3])
+		p, ok := madeProgram(t, 100000+i, []int{20, 60, 200}[i%3])
 		if !ok {
 			continue
 		}
-		want, c := plainly(p, 300)
+		want, c := plain.Run(p, 300)
 		if want == "" {
 			continue
 		}
 		held++
 		fuel := -3
-		for ; fuel < c.least() || answer(t, p, fuel) == noFuel; fuel++ {
-			if got := answer(t, p, fuel); got != noFuel || fuel > 40*c.greatest() {
-				t.Fatalf("%s: %s with %d of fuel, for %d words at least, %d at most", show.Program(p), got, fuel, c.least(), c.greatest())
+		for ; fuel < c.Least() || answer(t, p, fuel) == noFuel; fuel++ {
+			if got := answer(t, p, fuel); got != noFuel || fuel > 40*c.Greatest() {
+				t.Fatalf("%s: %s with %d of fuel, for %d words at least, %d at most", show.Program(p), got, fuel, c.Least(), c.Greatest())
 			}
 		}
 		for more := range 200 {
@@ -125,16 +126,16 @@ func TestMadeLater(t *testing.T) {
 	t.Parallel()
 	held := 0
 	for i := range 500 {
-		p, ok := made(t, 200000+i, []int{20, 60, 200}[i%3])
+		p, ok := madeProgram(t, 200000+i, []int{20, 60, 200}[i%3])
 		if !ok {
 			continue
 		}
-		want, c := plainly(p, 20000)
+		want, c := plain.Run(p, 20000)
 		if want == "" {
 			continue
 		}
 		held++
-		if got := answer(t, later(p), 80*c.greatest()); got != want {
+		if got := answer(t, later(p), 80*c.Greatest()); got != want {
 			t.Fatalf("%s: %s, but later %s", show.Program(p), want, got)
 		}
 	}

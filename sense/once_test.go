@@ -4,21 +4,23 @@ import (
 	"fmt"
 	"strings"
 	"testing"
+
+	"reverie/plain"
 )
 
 // checkWords asks for an outcome with just as much fuel as it may take, forty for each of the words that the plain way counts, and that it isn't there with less than one for each.
 func checkWords(t *testing.T, s, want string, most int) {
 	t.Helper()
 	p := parsed(t, s)
-	plain, c := plainly(p, most)
-	if plain != want {
-		t.Fatalf("%s: the plain way says %s (%d words), the test %s", s, brief(plain), c.greatest(), brief(want))
+	told, c := plain.Run(p, most)
+	if told != want {
+		t.Fatalf("%s: the plain way says %s (%d words), the test %s", s, brief(told), c.Greatest(), brief(want))
 	}
-	if got := answer(t, p, 40*c.greatest()); got != want {
-		t.Errorf("%s: %s with %d of fuel, not %s", s, brief(got), 40*c.greatest(), brief(want))
+	if got := answer(t, p, 40*c.Greatest()); got != want {
+		t.Errorf("%s: %s with %d of fuel, not %s", s, brief(got), 40*c.Greatest(), brief(want))
 	}
-	if got := answer(t, p, c.least()-1); got != noFuel {
-		t.Errorf("%s: %s with %d of fuel, not %s", s, brief(got), c.least()-1, noFuel)
+	if got := answer(t, p, c.Least()-1); got != noFuel {
+		t.Errorf("%s: %s with %d of fuel, not %s", s, brief(got), c.Least()-1, noFuel)
 	}
 }
 

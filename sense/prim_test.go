@@ -6,6 +6,7 @@ import (
 	"testing"
 
 	"reverie/api"
+	"reverie/plain"
 	"reverie/plane"
 	"reverie/sense"
 )
@@ -81,8 +82,8 @@ func TestAllNumbers(t *testing.T) {
 				switch made := operate(name, []any{a, b}).(type) {
 				case int64:
 					checkNumbers(t, name, a, b, made)
-				case built:
-					checkNumbers(t, name, a, b, map[string]int64{"True": 1, "False": 0}[made.name])
+				case bool:
+					checkNumbers(t, name, a, b, map[bool]int64{true: 1}[made])
 				case point:
 					checkPrim(t, name, sense.Operand{N: a, P: plane.Of(5, 6)}, sense.Operand{N: b, P: 7}, sense.Operand{P: plane.Of(made.re, made.im)}, api.OK)
 				}
@@ -154,7 +155,7 @@ func TestOperationsInPrograms(t *testing.T) {
 			for _, x := range []string{"(+ A B)", "(- A B)", "(* A B)", "(/ A B)", "(% A B)", "(= A B)", "(< A B)", "(cpx A B)", "(re (cpx A B))", "(im (cpx A B))", "(cadd (cpx A B) (cpx B 3))", "(cmul (cpx A B) (cpx 5 A))", "(* (* A A) (- 0 (* B B)))", "(case (< A B) (True 1) (False 2))", "(case (= A B) (False 1) (True 2))"} {
 				s := "(def main () " + replaced(x, "A", a, "B", b) + ")"
 				p := parsed(t, s)
-				want, _ := plainly(p, 1000)
+				want, _ := plain.Run(p, 1000)
 				if got := answer(t, p, enough); got != want {
 					t.Errorf("%s: %s, not %s", s, got, want)
 				}

@@ -4,12 +4,12 @@ import (
 	"fmt"
 	"math"
 	"reflect"
-	"slices"
 	"strings"
 	"sync"
 	"testing"
 
 	"reverie/api"
+	"reverie/made"
 	"reverie/parse"
 	"reverie/plane"
 	"reverie/sense"
@@ -89,42 +89,6 @@ func checkSame(t *testing.T, p api.Program, fuel int) {
 	}
 }
 
-// wide is a program in which other things lie behind the lengths of all lists.
-func wide(p api.Program) api.Program {
-	bad := api.Expr{Kind: api.FailE}
-	q := api.Program{Datas: spare(p.Datas, api.Data{Name: "Nope"}, nil)}
-	q.Defs = spare(p.Defs, api.Def{Name: "main", Body: bad}, func(d api.Def) api.Def {
-		d.Params, d.Body = spare(d.Params, "nope", nil), wideExpr(d.Body)
-		return d
-	})
-	return q
-}
-
-// spare has room behind a list's length, in which another part lies.
-func spare[T any](list []T, other T, part func(T) T) []T {
-	list = slices.Clone(list)
-	for i, one := range list {
-		if part != nil {
-			list[i] = part(one)
-		}
-	}
-	return append(list, other, other)[:len(list)]
-}
-
-func widePat(p api.Pat) api.Pat {
-	p.Args = spare(p.Args, api.Pat{Kind: api.VarP, Name: "nope"}, widePat)
-	return p
-}
-
-func wideExpr(x api.Expr) api.Expr {
-	x.Names = spare(x.Names, "nope", nil)
-	x.Args = spare(x.Args, api.Expr{Kind: api.FailE}, wideExpr)
-	x.Alts = spare(x.Alts, api.Alt{Body: api.Expr{Kind: api.FailE}}, func(a api.Alt) api.Alt {
-		return api.Alt{Pat: widePat(a.Pat), Body: wideExpr(a.Body)}
-	})
-	return x
-}
-
 func TestNothingIsChanged(t *testing.T) {
 	t.Parallel()
 	texts := []string{
@@ -135,7 +99,7 @@ func TestNothingIsChanged(t *testing.T) {
 		p := parsed(t, s)
 		want := answer(t, p, 100000)
 		checkSame(t, p, 100000)
-		p = wide(p)
+		p = made.Wide(p)
 		if got := answer(t, p, 100000); got != want {
 			t.Errorf("%s: what lies behind the lists' lengths was read: %s, not %s", s, got, want)
 		}
@@ -143,14 +107,14 @@ func TestNothingIsChanged(t *testing.T) {
 	}
 	held := 0
 	for i := range 150 {
-		if p, ok := made(t, 300000+i, []int{20, 60, 200}[i%3]); ok {
+		if p, ok := madeProgram(t, 300000+i, []int{20, 60, 200}[i%3]); ok {
 			held++
 			want := answer(t, p, 20000)
 			checkSame(t, p, 20000)
-			if got := answer(t, wide(p), 20000); got != want {
+			if got := answer(t, made.Wide(p), 20000); got != want {
 				t.Fatalf("%s: what lies behind the lists' lengths was read: %s, not %s", show.Program(p), got, want)
 			}
-			checkSame(t, wide(p), 500)
+			checkSame(t, made.Wide(p), 500)
 		}
 	}
 	if held < 100 {
@@ -164,7 +128,7 @@ func TestOrderOfCalls(t *testing.T) {
 	var list []api.Program
 	var want []string
 	for i := range 60 {
-		if p, ok := made(t, 400000+i, 60); ok {
+		if p, ok := madeProgram(t, 400000+i, 60); ok {
 			list, want = append(list, p), append(want, answer(t, p, 20000))
 		}
 	}

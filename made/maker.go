@@ -1,12 +1,9 @@
-package sense_test
+package made
 
 import (
-	"fmt"
 	"slices"
+	"strconv"
 	"strings"
-	"testing"
-
-	"reverie/api"
 )
 
 // The types for which a maker makes expressions.
@@ -21,10 +18,9 @@ const (
 	funs2 = 'G' // from two numbers to a number
 )
 
-// maker makes programs by a short rule.
 type maker struct {
+	Rule
 	state uint32
-	odd   int // one in odd expressions has no value, or none without itself
 	last  int // the last new name's number
 	holds []known
 }
@@ -41,6 +37,9 @@ func (m *maker) some(n int) int {
 	return int(m.state>>8) % n
 }
 
+// number is the text of one of n numbers, from least on.
+func (m *maker) number(n, least int) string { return strconv.Itoa(m.some(n) + least) }
+
 func (m *maker) one(of string) rune { return rune(of[m.some(len(of))]) }
 
 // name is one of few, or a new one.
@@ -49,7 +48,7 @@ func (m *maker) name() string {
 		return []string{"x", "y", "f", "l"}[m.some(4)]
 	}
 	m.last++
-	return fmt.Sprint("n", m.last)
+	return "n" + strconv.Itoa(m.last)
 }
 
 // with is what make makes while names hold.
@@ -78,7 +77,7 @@ func (m *maker) found(is rune) (string, bool) {
 
 // expr is an expression of a type.
 func (m *maker) expr(is rune, deep int) string {
-	if m.some(m.odd) == 0 {
+	if m.some(m.Odd) == 0 {
 		return m.oddOne(is)
 	}
 	if n, ok := m.found(is); ok && (deep <= 0 || m.some(4) == 0) {
@@ -119,7 +118,7 @@ func (m *maker) small(is rune) string {
 	case bools:
 		return []string{"True", "False"}[m.some(2)]
 	case cpxs:
-		return fmt.Sprintf("(cpx %d %d)", m.some(9)-4, m.some(9)-4)
+		return "(cpx " + m.number(9, -4) + " " + m.number(9, -4) + ")"
 	case lists:
 		return []string{"Nil", "(Cons 3 Nil)", "(up 1 4)"}[m.some(3)]
 	case pairs:
@@ -131,7 +130,7 @@ func (m *maker) small(is rune) string {
 	case funs2:
 		return []string{"k", "(fn (x y) (- x y))", "(fn (x) (fn (y) (+ x y)))"}[m.some(3)]
 	}
-	return fmt.Sprint(m.some(9) - 2)
+	return m.number(9, -2)
 }
 
 // whole is an expression that is made of some parts, as its type has it.
@@ -215,9 +214,9 @@ func (m *maker) let(is rune, deep int) string {
 func (m *maker) caseOf(is rune, deep int) string {
 	looked := m.one("IIBLLPMFC")
 	s := "(case " + m.expr(looked, deep-1)
-	for range 1 + m.some(3) {
+	for range 1 + m.some(m.Alts) {
 		var list []known
-		p := m.pat(looked, 2, &list)
+		p := m.pat(looked, m.Deep, &list)
 		s += " (" + p + " " + m.with(list, func() string { return m.expr(is, deep-1) }) + ")"
 	}
 	if m.some(4) > 0 {
@@ -250,7 +249,7 @@ func (m *maker) pat(is rune, deep int, list *[]known) string {
 	case is == mays:
 		return "(Just " + one(ints) + ")"
 	}
-	return fmt.Sprint(m.some(4))
+	return m.number(4, 0)
 }
 
 // call gives a function that stands there its arguments, all at once, or not.
@@ -273,9 +272,9 @@ func (m *maker) through(is rune, deep int) string {
 	return strings.NewReplacer("@", m.expr(is, deep-1), "#", m.expr(m.one("IBLPMFGC"), deep-1)).Replace(s)
 }
 
-// program is a text of some definitions, and main. Some of these count down.
+// program has definitions of which some count down, and main.
 func (m *maker) program() string {
-	s := datas
+	s := Head
 	for _, n := range []string{"a", "b", "c"} {
 		if m.some(3) == 0 {
 			is := m.one("IIBCLLPM")
@@ -289,15 +288,4 @@ func (m *maker) program() string {
 		m.holds = append(m.holds, known{n, funs2})
 	}
 	return s + "(def main () " + m.expr(m.one("IIBCLLPM"), 5) + ")"
-}
-
-// made is a program that has types; false, if its text is too long.
-func made(t *testing.T, state, odd int) (api.Program, bool) {
-	t.Helper()
-	m := maker{state: uint32(state) * 2654435761, odd: odd}
-	s := m.program()
-	if len(s) > api.MaxSource {
-		return api.Program{}, false
-	}
-	return parsed(t, s), true
 }

@@ -1,0 +1,186 @@
+package flat_test
+
+import (
+	"fmt"
+	"reflect"
+	"slices"
+	"strings"
+
+	"reverie/api"
+	"reverie/scope"
+)
+
+// The document's words: each of these answers what is wrong in what came of a program, or nothing.
+
+// heads asks that types and definitions are the same, but for the bodies.
+func heads(p, q api.Program) string {
+	if len(q.Datas) != len(p.Datas) || len(p.Datas) > 0 && !reflect.DeepEqual(q.Datas, p.Datas) {
+		return "other types"
+	}
+	if len(q.Defs) != len(p.Defs) {
+		return "other definitions"
+	}
+	for i, d := range q.Defs {
+		if was := p.Defs[i]; d.Name != was.Name || !slices.Equal(d.Params, was.Params) {
+			return fmt.Sprint("another definition at ", i)
+		}
+	}
+	return ""
+}
+
+// each goes through an expression and all in it, with the patterns.
+func each(x api.Expr, expr func(api.Expr), pat func(api.Pat)) {
+	expr(x)
+	for _, a := range x.Args {
+		each(a, expr, pat)
+	}
+	for _, a := range x.Alts {
+		eachPat(a.Pat, pat)
+		each(a.Body, expr, pat)
+	}
+}
+
+func eachPat(p api.Pat, pat func(api.Pat)) {
+	pat(p)
+	for _, a := range p.Args {
+		eachPat(a, pat)
+	}
+}
+
+// bound are the names that an expression binds.
+func bound(x api.Expr) map[string]bool {
+	list := map[string]bool{}
+	each(x, func(x api.Expr) {
+		for _, n := range x.Names {
+			list[n] = true
+		}
+	}, func(p api.Pat) {
+		if p.Kind == api.VarP {
+			list[p.Name] = true
+		}
+	})
+	return list
+}
+
+// names asks that all names hold, and that the new ones are such as no text has.
+func names(p, q api.Program) string {
+	if pos, e := scope.Check(q); pos != -1 || e != api.OK {
+		return "a name that doesn't hold, or is there twice"
+	}
+	for i, d := range q.Defs {
+		old := bound(p.Defs[i].Body)
+		for n := range bound(d.Body) {
+			if !old[n] && (!strings.HasPrefix(n, "M") || !strings.Contains(n, ".")) {
+				return "the new name " + n
+			}
+		}
+	}
+	return ""
+}
+
+// shapes asks that the program is flat, and that each part is what its kind says, with nothing else in it.
+func shapes(q api.Program) string {
+	wrong := ""
+	for _, d := range q.Defs {
+		each(d.Body, func(x api.Expr) {
+			if !isRight(x) {
+				wrong = fmt.Sprintf("a part isn't flat, or not right: %+v", x)
+			}
+		}, func(p api.Pat) {
+			if !isRightPat(p) {
+				wrong = fmt.Sprintf("a pattern isn't right: %+v", p)
+			}
+		})
+	}
+	return wrong
+}
+
+func isRight(x api.Expr) bool {
+	names, args, alts := len(x.Names), len(x.Args), len(x.Alts)
+	has := func(name bool, inNames, inArgs, inAlts bool) bool {
+		return (x.Name != "") == name && (names > 0) == inNames && inArgs && (alts > 0) == inAlts && (x.Int == 0 || x.Kind == api.IntE)
+	}
+	switch x.Kind {
+	case api.IntE, api.FailE:
+		return has(false, false, args == 0, false)
+	case api.VarE:
+		return has(true, false, args == 0, false)
+	case api.ConE:
+		return has(true, false, true, false)
+	case api.FnE:
+		return has(false, true, args == 1, false)
+	case api.LetE:
+		return has(false, true, args == names+1, false)
+	case api.CaseE:
+		return has(false, false, args == 1, true) && isFlat(x)
+	case api.AppE:
+		return has(false, false, args > 1, false)
+	}
+	return x.Kind == api.PrimE && has(true, false, args == api.Prims()[x.Name], false)
+}
+
+// isFlat asks what the document says of a case of a flat program.
+func isFlat(x api.Expr) bool {
+	if x.Args[0].Kind != api.VarE || len(x.Alts) != 2 || x.Alts[1].Pat.Kind != api.WildP {
+		return false
+	}
+	for _, a := range x.Alts[0].Pat.Args {
+		if a.Kind != api.VarP {
+			return false
+		}
+	}
+	return x.Alts[0].Pat.Kind == api.IntP || x.Alts[0].Pat.Kind == api.ConP
+}
+
+func isRightPat(p api.Pat) bool {
+	name, n, fields := p.Name != "", p.Int != 0, len(p.Args) > 0
+	switch p.Kind {
+	case api.WildP:
+		return !name && !n && !fields
+	case api.VarP:
+		return name && !n && !fields
+	case api.IntP:
+		return !name && !fields
+	}
+	return p.Kind == api.ConP && name && !n
+}
+
+// parts are how many an expression has: expressions and patterns.
+func parts(x api.Expr) (n int) {
+	each(x, func(api.Expr) { n++ }, func(api.Pat) { n++ })
+	return n
+}
+
+// sizes asks that no definition's body has too many parts.
+func sizes(p, q api.Program) string {
+	for i, d := range q.Defs {
+		if was, is := parts(p.Defs[i].Body), parts(d.Body); is > 12*was+12 {
+			return fmt.Sprintf("%s has %d parts, of %d", d.Name, is, was)
+		}
+	}
+	return ""
+}
+
+// greatestCase is how many parts the patterns of one case have together, at most.
+func greatestCase(p api.Program) (greatest int) {
+	for _, d := range p.Defs {
+		each(d.Body, func(x api.Expr) {
+			n := 0
+			for _, a := range x.Alts {
+				eachPat(a.Pat, func(api.Pat) { n++ })
+			}
+			greatest = max(greatest, n)
+		}, func(api.Pat) {})
+	}
+	return greatest
+}
+
+// fails counts an expression's FailE.
+func fails(x api.Expr) (n int) {
+	each(x, func(x api.Expr) {
+		if x.Kind == api.FailE {
+			n++
+		}
+	}, func(api.Pat) {})
+	return n
+}
