@@ -71,7 +71,7 @@ func TestOneLook(t *testing.T) {
 		for i, times := range []int{1, 15} {
 			p := parsed(t, made.WithMain(slow, strings.Replace(x, "@", made.Numbered(times, "(# 1#) ")+"(_ 5)", 1)))
 			if got := check(t, p, most); got != "5" {
-				t.Errorf("%s: %s", brief(p), got)
+				t.Errorf("%s: %s", made.Brief(p), got)
 			}
 			_, w := plain.Run(checkFlat(t, p), most)
 			words[i] = w.Looked + w.Got

@@ -1,10 +1,8 @@
 package flat_test
 
 import (
-	"math"
 	"math/rand/v2"
 	"reflect"
-	"slices"
 	"sync"
 	"testing"
 
@@ -13,18 +11,6 @@ import (
 	"reverie/made"
 	"reverie/show"
 )
-
-// behind gathers what lies behind the lengths of a program's lists.
-func behind(p api.Program) (all []any) {
-	all = append(all, beyond(p.Datas), beyond(p.Defs))
-	for _, d := range p.Defs {
-		all = append(all, beyond(d.Params))
-		each(d.Body, func(x api.Expr) { all = append(all, beyond(x.Names), beyond(x.Args), beyond(x.Alts)) }, func(p api.Pat) { all = append(all, beyond(p.Args)) })
-	}
-	return all
-}
-
-func beyond[T any](list []T) []T { return slices.Clone(list[len(list):cap(list)]) }
 
 // samples are programs of all sorts.
 func samples(t *testing.T) (list []api.Program) {
@@ -48,19 +34,19 @@ func TestNothingIsChanged(t *testing.T) {
 	for _, p := range samples(t) {
 		want := show.Program(checkFlat(t, p))
 		p = made.Wide(p)
-		was, spare := copied(p), behind(p)
+		was, spare := made.Copied(p), made.Behind(p)
 		got := flat.Program(p)
 		if show.Program(got) != want {
-			t.Fatalf("%swith other things behind its lists' lengths became\n%snot\n%s", brief(p), brief(got), want)
+			t.Fatalf("%swith other things behind its lists' lengths became\n%snot\n%s", made.Brief(p), made.Brief(got), want)
 		}
-		if !reflect.DeepEqual(p, was) || !reflect.DeepEqual(behind(p), spare) {
-			t.Fatalf("%swas changed by the call", brief(p))
+		if !reflect.DeepEqual(p, was) || !reflect.DeepEqual(made.Behind(p), spare) {
+			t.Fatalf("%swas changed by the call", made.Brief(p))
 		}
 		for i := range got.Defs {
 			got.Defs[i] = api.Def{Name: "turned"}
 		}
 		if !reflect.DeepEqual(p, was) || show.Program(flat.Program(p)) != want {
-			t.Fatalf("%swas changed, or kept, with an answer that was turned", brief(p))
+			t.Fatalf("%swas changed, or kept, with an answer that was turned", made.Brief(p))
 		}
 	}
 }
@@ -76,7 +62,7 @@ func TestOrderOfCalls(t *testing.T) {
 	for i := range list {
 		i = len(list) - 1 - i
 		if got := flat.Program(list[i]); !reflect.DeepEqual(got, want[i]) {
-			t.Fatalf("%sbecame\n%sand behind others\n%s", brief(list[i]), brief(want[i]), brief(got))
+			t.Fatalf("%sbecame\n%sand behind others\n%s", made.Brief(list[i]), made.Brief(want[i]), made.Brief(got))
 		}
 	}
 	var group sync.WaitGroup
@@ -84,7 +70,7 @@ func TestOrderOfCalls(t *testing.T) {
 		group.Go(func() {
 			for i, p := range list {
 				if got := flat.Program(p); !reflect.DeepEqual(got, want[i]) {
-					t.Errorf("%sbecame\n%sand beside others\n%s", brief(p), brief(want[i]), brief(got))
+					t.Errorf("%sbecame\n%sand beside others\n%s", made.Brief(p), made.Brief(want[i]), made.Brief(got))
 					return
 				}
 			}
@@ -96,27 +82,10 @@ func TestOrderOfCalls(t *testing.T) {
 // TestOtherParts has parts that layer 2 never answers, or names and types that aren't right: the calls end, and don't panic.
 func TestOtherParts(t *testing.T) {
 	t.Parallel()
-	kinds := []int{math.MinInt, -1, 9, math.MaxInt}
-	for kind := api.IntE; kind <= api.FailE; kind++ {
-		kinds = append(kinds, kind)
-	}
-	for _, kind := range kinds {
-		for i := range 5 * 5 * 5 * 4 {
-			x := api.Expr{Kind: kind, Name: []string{"", "x", "+", "M.1"}[i/125], Names: make([]string, i%5), Args: make([]api.Expr, i/5%5), Alts: make([]api.Alt, i/25%5)}
-			for j := range x.Args {
-				x.Args[j] = api.Expr{Kind: kinds[(i+j)%len(kinds)], Name: []string{"x", "y", "M.1"}[i%3], Alts: make([]api.Alt, i%2)}
-			}
-			for j := range x.Alts {
-				x.Alts[j].Pat = api.Pat{Kind: kinds[(i+j)%len(kinds)], Name: "x", Args: []api.Pat{{Kind: api.VarP}, {Kind: kind, Name: "x", Args: make([]api.Pat, 2)}, {Kind: api.ConP}}[:i%4]}
-				x.Alts[j].Body = api.Expr{Kind: kinds[(i*j)%len(kinds)], Args: make([]api.Expr, j)}
-			}
-			for _, params := range [][]string{nil, {"x"}, {"", "M.1"}} {
-				p := api.Program{Defs: []api.Def{{Name: "main", Params: params, Body: x}, {Name: "x", Body: x}, {Body: x}}}
-				was := copied(p)
-				if q := flat.Program(p); !reflect.DeepEqual(flat.Program(p), q) || !reflect.DeepEqual(p, was) {
-					t.Fatal("another answer the second time, or a change of", p)
-				}
-			}
+	for p := range made.Odd {
+		was := made.Copied(p)
+		if q := flat.Program(p); !reflect.DeepEqual(flat.Program(p), q) || !reflect.DeepEqual(p, was) {
+			t.Fatal("another answer the second time, or a change of", p)
 		}
 	}
 	if q := flat.Program(api.Program{}); len(q.Datas) > 0 || len(q.Defs) > 0 {

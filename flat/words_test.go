@@ -7,6 +7,7 @@ import (
 	"strings"
 
 	"reverie/api"
+	"reverie/made"
 	"reverie/scope"
 )
 
@@ -28,49 +29,15 @@ func heads(p, q api.Program) string {
 	return ""
 }
 
-// each goes through an expression and all in it, with the patterns.
-func each(x api.Expr, expr func(api.Expr), pat func(api.Pat)) {
-	expr(x)
-	for _, a := range x.Args {
-		each(a, expr, pat)
-	}
-	for _, a := range x.Alts {
-		eachPat(a.Pat, pat)
-		each(a.Body, expr, pat)
-	}
-}
-
-func eachPat(p api.Pat, pat func(api.Pat)) {
-	pat(p)
-	for _, a := range p.Args {
-		eachPat(a, pat)
-	}
-}
-
-// bound are the names that an expression binds.
-func bound(x api.Expr) map[string]bool {
-	list := map[string]bool{}
-	each(x, func(x api.Expr) {
-		for _, n := range x.Names {
-			list[n] = true
-		}
-	}, func(p api.Pat) {
-		if p.Kind == api.VarP {
-			list[p.Name] = true
-		}
-	})
-	return list
-}
-
 // names asks that all names hold, and that the new ones are such as no text has.
 func names(p, q api.Program) string {
 	if pos, e := scope.Check(q); pos != -1 || e != api.OK {
 		return "a name that doesn't hold, or is there twice"
 	}
 	for i, d := range q.Defs {
-		old := bound(p.Defs[i].Body)
-		for n := range bound(d.Body) {
-			if !old[n] && (!strings.HasPrefix(n, "M") || !strings.Contains(n, ".")) {
+		old := made.Bound(p.Defs[i].Body)
+		for _, n := range made.Bound(d.Body) {
+			if !slices.Contains(old, n) && (!strings.HasPrefix(n, "M") || !strings.Contains(n, ".")) {
 				return "the new name " + n
 			}
 		}
@@ -82,7 +49,7 @@ func names(p, q api.Program) string {
 func shapes(q api.Program) string {
 	wrong := ""
 	for _, d := range q.Defs {
-		each(d.Body, func(x api.Expr) {
+		made.Each(d.Body, func(x api.Expr) {
 			if !isRight(x) {
 				wrong = fmt.Sprintf("a part isn't flat, or not right: %+v", x)
 			}
@@ -147,7 +114,7 @@ func isRightPat(p api.Pat) bool {
 
 // parts are how many an expression has: expressions and patterns.
 func parts(x api.Expr) (n int) {
-	each(x, func(api.Expr) { n++ }, func(api.Pat) { n++ })
+	made.Each(x, func(api.Expr) { n++ }, func(api.Pat) { n++ })
 	return n
 }
 
@@ -164,10 +131,10 @@ func sizes(p, q api.Program) string {
 // greatestCase is how many parts the patterns of one case have together, at most.
 func greatestCase(p api.Program) (greatest int) {
 	for _, d := range p.Defs {
-		each(d.Body, func(x api.Expr) {
+		made.Each(d.Body, func(x api.Expr) {
 			n := 0
 			for _, a := range x.Alts {
-				eachPat(a.Pat, func(api.Pat) { n++ })
+				made.EachPat(a.Pat, func(api.Pat) { n++ })
 			}
 			greatest = max(greatest, n)
 		}, func(api.Pat) {})
@@ -177,7 +144,7 @@ func greatestCase(p api.Program) (greatest int) {
 
 // fails counts an expression's FailE.
 func fails(x api.Expr) (n int) {
-	each(x, func(x api.Expr) {
+	made.Each(x, func(x api.Expr) {
 		if x.Kind == api.FailE {
 			n++
 		}

@@ -8,6 +8,7 @@ import (
 	"reverie/infer"
 	"reverie/parse"
 	"reverie/scope"
+	"reverie/show"
 )
 
 // Inside is a text some times in itself, in the place of @, and another one innermost.
@@ -40,4 +41,14 @@ func Read(s string) (p api.Program, wrong string) {
 		return api.Program{}, "error " + strconv.Itoa(int(e)) + " at " + strconv.Itoa(pos) + " of " + strconv.Itoa(len(s)) + " bytes: " + s
 	}
 	return p, ""
+}
+
+// Brief is a program's text without the types and functions of Head.
+func Brief(p api.Program) string {
+	_, s, found := strings.Cut(show.Program(p), "(def nat ")
+	if !found {
+		return show.Program(p)
+	}
+	_, s, _ = strings.Cut(s, "\n")
+	return s
 }
