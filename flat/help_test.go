@@ -1,7 +1,6 @@
 package flat_test
 
 import (
-	"reflect"
 	"strings"
 	"testing"
 
@@ -9,8 +8,7 @@ import (
 	"reverie/flat"
 	"reverie/made"
 	"reverie/plain"
-	"reverie/sense"
-	"reverie/show"
+	"reverie/words"
 )
 
 // most is how many words the tests' programs may take.
@@ -37,15 +35,8 @@ func parsed(t *testing.T, s string) api.Program {
 // checkFlat asks of what comes of a program all that the document promises, but for what the program means, and answers it.
 func checkFlat(t *testing.T, p api.Program) api.Program {
 	t.Helper()
-	was := made.Copied(p)
-	q := flat.Program(p)
-	if again := flat.Program(p); !reflect.DeepEqual(again, q) {
-		t.Fatalf("%sbecame\n%sand then\n%s", made.Brief(p), made.Brief(q), made.Brief(again))
-	}
-	if !reflect.DeepEqual(p, was) {
-		t.Fatalf("%swas changed by the call", made.Brief(p))
-	}
-	for _, wrong := range []string{heads(p, q), names(p, q), shapes(q), sizes(p, q)} {
+	q, wrong := words.Again(p, flat.Program)
+	for _, wrong := range []string{wrong, heads(p, q), names(p, q), shapes(q), sizes(p, q)} {
 		if wrong != "" {
 			t.Fatalf("%sbecame\n%s%s", made.Brief(p), made.Brief(q), wrong)
 		}
@@ -66,19 +57,10 @@ func check(t *testing.T, p api.Program, most int) string {
 	if got != want || v.Looked+v.Got > bound {
 		t.Fatalf("%sbecame\n%s%q in %d words, not %q in %d (from %d)", made.Brief(p), made.Brief(q), got, v.Looked+v.Got, want, bound, w.Looked+w.Got)
 	}
-	if got := outcome(q, 40*v.Greatest()); got != want {
+	if got := words.Outcome(q, 40*v.Greatest()); got != want {
 		t.Fatalf("%sbecame\n%s%q, by layer 9, not %q", made.Brief(p), made.Brief(q), got, want)
 	}
 	return want
-}
-
-// outcome is layer 9's, as a text.
-func outcome(p api.Program, fuel int) string {
-	out := sense.Run(p, fuel)
-	if out.Error != api.OK {
-		return plain.ErrorText(out.Error)
-	}
-	return show.Tree(out.Tree)
 }
 
 // checkText asks for a program's outcome, too.

@@ -2,20 +2,20 @@ package flat_test
 
 import (
 	"fmt"
-	"reflect"
 	"slices"
 	"strings"
 
 	"reverie/api"
 	"reverie/made"
 	"reverie/scope"
+	"reverie/words"
 )
 
 // The document's words: each of these answers what is wrong in what came of a program, or nothing.
 
 // heads asks that types and definitions are the same, but for the bodies.
 func heads(p, q api.Program) string {
-	if len(q.Datas) != len(p.Datas) || len(p.Datas) > 0 && !reflect.DeepEqual(q.Datas, p.Datas) {
+	if !made.EqualTypes(p, q) {
 		return "other types"
 	}
 	if len(q.Defs) != len(p.Defs) {
@@ -47,11 +47,11 @@ func names(p, q api.Program) string {
 
 // shapes asks that the program is flat, and that each part is what its kind says, with nothing else in it.
 func shapes(q api.Program) string {
-	wrong := ""
+	wrong := words.NotFlat(q)
 	for _, d := range q.Defs {
 		made.Each(d.Body, func(x api.Expr) {
 			if !isRight(x) {
-				wrong = fmt.Sprintf("a part isn't flat, or not right: %+v", x)
+				wrong = fmt.Sprintf("a part isn't right: %+v", x)
 			}
 		}, func(p api.Pat) {
 			if !isRightPat(p) {
@@ -79,24 +79,11 @@ func isRight(x api.Expr) bool {
 	case api.LetE:
 		return has(false, true, args == names+1, false)
 	case api.CaseE:
-		return has(false, false, args == 1, true) && isFlat(x)
+		return has(false, false, args == 1, true)
 	case api.AppE:
 		return has(false, false, args > 1, false)
 	}
 	return x.Kind == api.PrimE && has(true, false, args == api.Prims()[x.Name], false)
-}
-
-// isFlat asks what the document says of a case of a flat program.
-func isFlat(x api.Expr) bool {
-	if x.Args[0].Kind != api.VarE || len(x.Alts) != 2 || x.Alts[1].Pat.Kind != api.WildP {
-		return false
-	}
-	for _, a := range x.Alts[0].Pat.Args {
-		if a.Kind != api.VarP {
-			return false
-		}
-	}
-	return x.Alts[0].Pat.Kind == api.IntP || x.Alts[0].Pat.Kind == api.ConP
 }
 
 func isRightPat(p api.Pat) bool {

@@ -8,6 +8,7 @@ import (
 	"reverie/api"
 	"reverie/made"
 	"reverie/show"
+	"reverie/words"
 )
 
 // head has no bound names.
@@ -16,47 +17,10 @@ const head = "(data T () (A) (B T) (C T T) (E T T T T T T T T)) (def g () A) (de
 // lettered is a program with the names a, b, .. in the place of those that are bound, in turn, as all of these are different.
 func lettered(p api.Program) api.Program {
 	letters := map[string]string{}
-	for i, n := range boundNames(p) {
+	for i, n := range words.Bound(p) {
 		letters[n] = string(rune('a' + i))
 	}
-	inPlace := func(n *string) {
-		if letter, ok := letters[*n]; ok {
-			*n = letter
-		}
-	}
-	p = made.Copied(p)
-	for i := range p.Defs {
-		for j := range p.Defs[i].Params {
-			inPlace(&p.Defs[i].Params[j])
-		}
-		letterExpr(&p.Defs[i].Body, inPlace)
-	}
-	return p
-}
-
-func letterExpr(x *api.Expr, inPlace func(*string)) {
-	if x.Kind == api.VarE {
-		inPlace(&x.Name)
-	}
-	for i := range x.Names {
-		inPlace(&x.Names[i])
-	}
-	for i := range x.Args {
-		letterExpr(&x.Args[i], inPlace)
-	}
-	for i := range x.Alts {
-		letterPat(&x.Alts[i].Pat, inPlace)
-		letterExpr(&x.Alts[i].Body, inPlace)
-	}
-}
-
-func letterPat(p *api.Pat, inPlace func(*string)) {
-	if p.Kind == api.VarP {
-		inPlace(&p.Name)
-	}
-	for i := range p.Args {
-		letterPat(&p.Args[i], inPlace)
-	}
+	return made.Renamed(p, letters)
 }
 
 // checkTexts asks which definitions come of others, letters standing for the names.

@@ -9,11 +9,11 @@ import (
 	"reverie/fresh"
 	"reverie/infer"
 	"reverie/made"
-	"reverie/parse"
 	"reverie/plain"
 	"reverie/scope"
 	"reverie/sense"
 	"reverie/show"
+	"reverie/words"
 )
 
 // The errors' texts.
@@ -27,12 +27,9 @@ var (
 // named is a program whose names hold, and that needn't have types.
 func named(t *testing.T, s string) api.Program {
 	t.Helper()
-	p, pos, e := parse.Program([]byte(s))
-	if e == api.OK {
-		pos, e = scope.Check(p)
-	}
-	if e != api.OK {
-		t.Fatalf("error %d at %d of %s", e, pos, s)
+	p, wrong := made.Named(s)
+	if wrong != "" {
+		t.Fatal(wrong)
 	}
 	return p
 }
@@ -53,15 +50,8 @@ func check(t *testing.T, p api.Program) api.Program {
 	if pos, e := scope.Check(p); e != api.OK {
 		t.Fatalf("%shas names that don't hold: %d", show.Program(p), pos)
 	}
-	was := made.Copied(p)
-	q := fresh.Program(p)
-	if !reflect.DeepEqual(p, was) {
-		t.Fatalf("%swas changed by the call", made.Brief(was))
-	}
-	if again := fresh.Program(p); !reflect.DeepEqual(again, q) {
-		t.Fatalf("%sbecame\n%sand then\n%s", made.Brief(p), made.Brief(q), made.Brief(again))
-	}
-	for _, wrong := range []string{different(q), same(p, q)} {
+	q, wrong := words.Again(p, fresh.Program)
+	for _, wrong := range []string{wrong, words.Twice(q), same(p, q)} {
 		if wrong != "" {
 			t.Fatalf("%sbecame\n%s%s", made.Brief(p), made.Brief(q), wrong)
 		}
@@ -79,19 +69,6 @@ func checkAll(t *testing.T, p api.Program) {
 	check(t, check(t, flat.Program(p)))
 }
 
-// leastFuel is how much fuel a program needs for its outcome, that comes with most of it.
-func leastFuel(p api.Program, most int) int {
-	low := 0
-	for most-low > 1 {
-		if middle := low + (most-low)/2; sense.Run(p, middle).Error == api.ErrFuel {
-			low = middle
-		} else {
-			most = middle
-		}
-	}
-	return most
-}
-
 // checkMeant asks likewise, and that what comes of a program has the same outcome, in as many steps, and by as many of layer 9's words; it answers the outcome, none, if there are more words than most.
 func checkMeant(t *testing.T, p api.Program, most int) string {
 	t.Helper()
@@ -102,7 +79,7 @@ func checkMeant(t *testing.T, p api.Program, most int) string {
 	}
 	fuels := []int{-1, 0, 1, 2, 10, 100, 1000, 5000}
 	if want != "" {
-		need := leastFuel(p, 40*w.Greatest())
+		need := words.LeastFuel(p, 40*w.Greatest())
 		fuels = append(fuels, need/2, need-1, need, need+1, 2*need, 40*w.Greatest())
 	}
 	for _, fuel := range fuels {

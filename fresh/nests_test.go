@@ -8,7 +8,7 @@ import (
 	"reverie/api"
 	"reverie/fresh"
 	"reverie/made"
-	"reverie/parse"
+	"reverie/words"
 )
 
 // binders are expressions that bind # and z in all places, use $ outside of these, and have another expression in the place of @.
@@ -49,17 +49,11 @@ func TestNests(t *testing.T) {
 // deepest is a definition of as many binders in each other as a text may have: each one's text is told by its number.
 func deepest(t *testing.T, binder func(i int) string) api.Program {
 	t.Helper()
-	for times := 38; times > 8; times-- {
-		s := "(C x (C y g))"
-		for i := range times {
-			s = strings.Replace(binder(i), "@", s, 1)
-		}
-		if p, _, e := parse.Program([]byte(head + "(def f (x y) " + s + ")")); e == api.OK {
-			return p
-		}
+	p, wrong := made.Deepest(head+"(def f (x y) @)", "(C x (C y g))", binder)
+	if wrong != "" {
+		t.Fatal(wrong)
 	}
-	t.Fatal("no text is long enough for", binder(0))
-	return api.Program{}
+	return p
 }
 
 // TestDeepTexts has each binder in itself, with names that hide each other, and with such that hide none.
@@ -120,7 +114,7 @@ func TestDeeperThanTexts(t *testing.T) {
 		p.Defs = append(p.Defs, api.Def{Name: "f", Params: []string{"x"}, Body: nestOf(1<<11, i, name)})
 		check(t, p)
 		p.Defs[len(p.Defs)-1].Body = nestOf(1<<17, i, name)
-		if wrong := different(fresh.Program(p)); wrong != "" {
+		if wrong := words.Twice(fresh.Program(p)); wrong != "" {
 			t.Fatal("very deep names:", wrong)
 		}
 	}

@@ -2,7 +2,6 @@ package fresh_test
 
 import (
 	"fmt"
-	"reflect"
 	"slices"
 
 	"reverie/api"
@@ -11,28 +10,6 @@ import (
 )
 
 // The document's words: each of these answers what is wrong in what came of a program, or nothing.
-
-// boundNames are all that a program binds, definition by definition, each as often as it does.
-func boundNames(p api.Program) (list []string) {
-	for _, d := range p.Defs {
-		list = append(append(list, d.Params...), made.Bound(d.Body)...)
-	}
-	return list
-}
-
-// different asks that no name is bound twice, and that none is a definition's.
-func different(q api.Program) string {
-	times := map[string]int{}
-	for _, d := range q.Defs {
-		times[d.Name]++
-	}
-	for _, n := range boundNames(q) {
-		if times[n]++; times[n] > 1 {
-			return n + " is bound twice, or is a definition's"
-		}
-	}
-	return ""
-}
 
 // pair are names that are bound at the same place: one in a program, one in what came of it.
 type pair struct{ was, is string }
@@ -66,7 +43,7 @@ func (h pairs) stand(was, is string) bool {
 
 // same asks that two programs are the same, but for what is bound, and that each name stands for what it stood for.
 func same(p, q api.Program) string {
-	if len(q.Datas) != len(p.Datas) || len(p.Datas) > 0 && !reflect.DeepEqual(q.Datas, p.Datas) {
+	if !made.EqualTypes(p, q) {
 		return "other types"
 	}
 	if len(q.Defs) != len(p.Defs) {

@@ -1,4 +1,4 @@
-// Package made makes texts of programs that have types, by a short rule. Tests hold layers against each other with them; no layer stands on it.
+// Package made makes programs, and texts of such, by short rules. Tests hold layers against each other with them; no layer stands on it.
 package made
 
 // Head has types of all sorts, and some functions.
@@ -19,6 +19,17 @@ type Rule struct {
 
 // Text is a program of some definitions, and main. The same state and rule make the same one.
 func Text(state int, rule Rule) string {
-	m := maker{Rule: rule, state: uint32(state) * 2654435761}
+	m := maker{Rule: rule, numbers: begin(state)}
 	return m.program()
+}
+
+// numbers come one by one, in a turn that hangs on with which state they begin.
+type numbers struct{ state uint32 }
+
+func begin(state int) numbers { return numbers{uint32(state) * 2654435761} }
+
+// some is a number below n.
+func (m *numbers) some(n int) int {
+	m.state = m.state*1664525 + 1013904223
+	return int(m.state>>8) % n
 }

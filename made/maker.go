@@ -20,7 +20,7 @@ const (
 
 type maker struct {
 	Rule
-	state uint32
+	numbers
 	last  int // the last new name's number
 	holds []known
 }
@@ -29,12 +29,6 @@ type maker struct {
 type known struct {
 	name string
 	is   rune
-}
-
-// some is a number below n.
-func (m *maker) some(n int) int {
-	m.state = m.state*1664525 + 1013904223
-	return int(m.state>>8) % n
 }
 
 // number is the text of one of n numbers, from least on.

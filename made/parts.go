@@ -31,3 +31,50 @@ func Bound(x api.Expr) (list []string) {
 	})
 	return list
 }
+
+// Renamed is a program in memory of its own, with other names in the places of those for which there are some, where they are bound, and where they stand for something.
+func Renamed(p api.Program, others map[string]string) api.Program {
+	p = Copied(p)
+	for i := range p.Defs {
+		rename(p.Defs[i].Params, others)
+		renameIn(&p.Defs[i].Body, others)
+	}
+	return p
+}
+
+func rename(list []string, others map[string]string) {
+	for i, name := range list {
+		if other, ok := others[name]; ok {
+			list[i] = other
+		}
+	}
+}
+
+func renameOne(name *string, others map[string]string) {
+	if other, ok := others[*name]; ok {
+		*name = other
+	}
+}
+
+func renameIn(x *api.Expr, others map[string]string) {
+	if x.Kind == api.VarE {
+		renameOne(&x.Name, others)
+	}
+	rename(x.Names, others)
+	for i := range x.Args {
+		renameIn(&x.Args[i], others)
+	}
+	for i := range x.Alts {
+		renameInPat(&x.Alts[i].Pat, others)
+		renameIn(&x.Alts[i].Body, others)
+	}
+}
+
+func renameInPat(p *api.Pat, others map[string]string) {
+	if p.Kind == api.VarP {
+		renameOne(&p.Name, others)
+	}
+	for i := range p.Args {
+		renameInPat(&p.Args[i], others)
+	}
+}

@@ -12,10 +12,16 @@ func Copied(p api.Program) api.Program { return copier{}.program(p) }
 // Wide is likewise one, in which other things lie behind the lengths of all lists.
 func Wide(p api.Program) api.Program { return copier{wide: true}.program(p) }
 
+// Whole is likewise one, whose lists go on with what lies behind those of the other.
+func Whole(p api.Program) api.Program { return copier{whole: true}.program(p) }
+
 // copier makes copies, whose lists have room behind their lengths, if they are wide, in which another part lies.
-type copier struct{ wide bool }
+type copier struct{ wide, whole bool }
 
 func copied[T any](c copier, list []T, other T, of func(T) T) []T {
+	if c.whole {
+		list = list[:cap(list)]
+	}
 	list = slices.Clone(list)
 	for i, part := range list {
 		list[i] = of(part)
@@ -67,21 +73,3 @@ func (c copier) pat(p api.Pat) api.Pat {
 	p.Args = copied(c, p.Args, api.Pat{Kind: api.IntP, Int: 77}, c.pat)
 	return p
 }
-
-// Behind is what lies behind the lengths of a program's lists.
-func Behind(p api.Program) (all []any) {
-	all = append(all, behind(p.Datas), behind(p.Defs))
-	for _, d := range p.Datas {
-		all = append(all, behind(d.Params), behind(d.Cons))
-		for _, k := range d.Cons {
-			all = append(all, behind(k.Fields))
-		}
-	}
-	for _, d := range p.Defs {
-		all = append(all, behind(d.Params))
-		Each(d.Body, func(x api.Expr) { all = append(all, behind(x.Names), behind(x.Args), behind(x.Alts)) }, func(p api.Pat) { all = append(all, behind(p.Args)) })
-	}
-	return all
-}
-
-func behind[T any](list []T) []T { return slices.Clone(list[len(list):cap(list)]) }
