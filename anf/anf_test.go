@@ -13,7 +13,7 @@ import (
 
 // numbered is what came of a program, whose new names are A.1, A.2, .. in turn.
 func numbered(p, q api.Program) api.Program {
-	times := timesOf(p)
+	times := words.Times(p)
 	names := map[string]string{}
 	for _, n := range words.Bound(q) {
 		if times[n] == 0 {

@@ -1,8 +1,6 @@
 package anf_test
 
 import (
-	"fmt"
-	"reflect"
 	"testing"
 
 	"reverie/anf"
@@ -11,8 +9,6 @@ import (
 	"reverie/fresh"
 	"reverie/made"
 	"reverie/plain"
-	"reverie/scope"
-	"reverie/sense"
 	"reverie/show"
 	"reverie/words"
 )
@@ -59,7 +55,7 @@ func fail(t *testing.T, p, q api.Program, wrong string) {
 func check(t *testing.T, p api.Program) api.Program {
 	t.Helper()
 	q, wrong := words.Again(p, anf.Program)
-	for _, wrong := range []string{wrong, heads(p, q), arguments(q), letsAround(p, q), stays(p, q)} {
+	for _, wrong := range []string{wrong, words.OtherHeads(p, q), words.NoNames(q), letsAround(p, q), stays(p, q)} {
 		if wrong != "" {
 			fail(t, p, q, wrong)
 		}
@@ -77,7 +73,7 @@ func checkTrim(t *testing.T, p api.Program) api.Program {
 		t.Fatal(show.Program(p), wrong)
 	}
 	q, wrong := words.Again(p, anf.Trim)
-	for _, wrong := range []string{wrong, heads(p, q), others(q), stays(p, q)} {
+	for _, wrong := range []string{wrong, words.OtherHeads(p, q), others(q), stays(p, q)} {
 		if wrong != "" {
 			fail(t, p, q, wrong)
 		}
@@ -85,26 +81,18 @@ func checkTrim(t *testing.T, p api.Program) api.Program {
 	if want := trimmed(p, q); !made.Equal(q, want) {
 		fail(t, p, q, "not\n"+made.Brief(want))
 	}
-	if arguments(p) == "" && arguments(q) != "" {
-		fail(t, p, q, arguments(q))
+	if wrong := words.NoNames(q); wrong != "" && words.NoNames(p) == "" {
+		fail(t, p, q, wrong)
 	}
 	return q
 }
 
 // stays asks that names hold that held, that what was flat is flat, and that of a program in which no name is bound twice comes such a one.
 func stays(p, q api.Program) string {
-	if pos, e := scope.Check(q); e != api.OK {
-		if _, e := scope.Check(p); e == api.OK {
-			return fmt.Sprint("a name doesn't hold, or is there twice: ", pos)
-		}
-	}
-	if wrong := words.NotFlat(q); wrong != "" && words.NotFlat(p) == "" {
-		return wrong
-	}
 	if wrong := words.Twice(q); wrong != "" && words.Twice(p) == "" {
 		return wrong
 	}
-	return ""
+	return words.NotKept(p, q)
 }
 
 // checkAll asks all of both of a program whose names hold, of what layers 10 and 11 make of it, and of what comes of these.
@@ -128,21 +116,11 @@ func checkTurns(t *testing.T, p api.Program) {
 // checkSteps asks that a program that was made of another one has its outcome, in at most so many times as many steps and words; it answers the outcome, none, if there are more words than most.
 func checkSteps(t *testing.T, p, q api.Program, times, most int) string {
 	t.Helper()
-	want, w := plain.Run(p, most)
-	if want == "" {
-		return ""
+	outcome, wrong := words.Steps(p, q, times, most)
+	if wrong != "" {
+		fail(t, p, q, wrong)
 	}
-	if got, v := plain.Run(q, times*w.Least()); got != want || v.Greatest() > times*w.Greatest() {
-		fail(t, p, q, fmt.Sprintf("%q by %v, not %q by %v", got, v, want, w))
-	}
-	need := words.LeastFuel(p, 40*w.Greatest())
-	out := sense.Run(p, need)
-	for _, fuel := range []int{times * need, times*need + 1, 10 * times * need} {
-		if got := sense.Run(q, fuel); !reflect.DeepEqual(got, out) {
-			fail(t, p, q, fmt.Sprintf("and with %d of fuel %v, not %v with %d", fuel, got, out, need))
-		}
-	}
-	return want
+	return outcome
 }
 
 // checkMeant asks all of both of a program that has types, of what layers 10 and 11 make of it, and of what comes of these, and what it means; it answers the outcome, none, if there are more words than most.

@@ -101,7 +101,7 @@ func TestDeeperThanTexts(t *testing.T) {
 	check(t, p)
 	p.Defs[len(p.Defs)-1].Body = nestOf(1 << 13)
 	q := anf.Program(p)
-	if wrong := arguments(q) + words.Twice(q); wrong != "" || len(words.Bound(q)) != 1<<13 {
+	if wrong := words.NoNames(q) + words.Twice(q); wrong != "" || len(words.Bound(q)) != 1<<13 {
 		t.Fatal("very deep applications:", wrong, len(words.Bound(q)))
 	}
 }

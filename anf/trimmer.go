@@ -4,6 +4,7 @@ import (
 	"slices"
 
 	"reverie/api"
+	"reverie/parts"
 )
 
 // trimmer has names in the places of others, that stand for the same.
@@ -18,7 +19,7 @@ func (t *trimmer) expr(x api.Expr) api.Expr {
 	if other, ok := t.inPlace[x.Name]; ok && x.Kind == api.VarE {
 		x.Name = other.Name
 	}
-	return inParts(x, t.expr)
+	return parts.InExpr(x, t.expr)
 }
 
 // let asks what the name is for only once that has been trimmed, as it may be a name then. What comes for that one itself is known by then, so that no name has to be put in place twice.

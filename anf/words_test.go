@@ -8,59 +8,10 @@ import (
 	"reverie/api"
 	"reverie/made"
 	"reverie/show"
+	"reverie/words"
 )
 
 // The document's words: each of these answers what is wrong in what came of a program, or nothing.
-
-// heads asks that types and definitions are the same, but for the bodies.
-func heads(p, q api.Program) string {
-	if !made.EqualTypes(p, q) {
-		return "other types"
-	}
-	same := func(d, e api.Def) bool {
-		return d.Name == e.Name && d.Pos == e.Pos && slices.Equal(d.Params, e.Params)
-	}
-	if !slices.EqualFunc(p.Defs, q.Defs, same) {
-		return "other definitions"
-	}
-	return ""
-}
-
-// unnamed are the parts of an expression that ought to have names, and have none.
-func unnamed(x api.Expr) (list []api.Expr) {
-	switch x.Kind {
-	case api.AppE:
-		if x.Args[0].Kind != api.VarE {
-			list = append(list, x.Args[0])
-		}
-		return append(list, notSmall(x.Args[1:])...)
-	case api.ConE:
-		return notSmall(x.Args)
-	}
-	return nil
-}
-
-// notSmall are those that are neither names nor numbers.
-func notSmall(list []api.Expr) (others []api.Expr) {
-	for _, x := range list {
-		if x.Kind != api.VarE && x.Kind != api.IntE {
-			others = append(others, x)
-		}
-	}
-	return others
-}
-
-// arguments asks that all of them have names.
-func arguments(q api.Program) (wrong string) {
-	for _, d := range q.Defs {
-		made.Each(d.Body, func(x api.Expr) {
-			if len(unnamed(x)) > 0 {
-				wrong = "arguments without names: " + show.Expr(x)
-			}
-		}, func(api.Pat) {})
-	}
-	return wrong
-}
 
 // walk goes through a program, and what came of it.
 type walk struct{ news []string } // the new names
@@ -73,7 +24,7 @@ func letsAround(p, q api.Program) string {
 			return wrong + " in " + d.Name
 		}
 	}
-	times := timesOf(p)
+	times := words.Times(p)
 	for _, n := range w.news {
 		if !strings.HasPrefix(n, "A.") || len(n) < 3 || n[2] < '0' || n[2] > '9' {
 			return "the new name " + n
@@ -85,26 +36,8 @@ func letsAround(p, q api.Program) string {
 	return ""
 }
 
-// timesOf is how often each name stands in a program.
-func timesOf(p api.Program) map[string]int {
-	times := map[string]int{}
-	for _, d := range p.Defs {
-		times[d.Name]++
-		for _, n := range d.Params {
-			times[n]++
-		}
-		made.Each(d.Body, func(x api.Expr) {
-			times[x.Name]++
-			for _, n := range x.Names {
-				times[n]++
-			}
-		}, func(p api.Pat) { times[p.Name]++ })
-	}
-	return times
-}
-
 func (w *walk) expr(x, y api.Expr) string {
-	list := unnamed(x)
+	list := words.Unnamed(x)
 	if len(list) == 0 {
 		return w.same(x, y)
 	}
@@ -133,19 +66,12 @@ func (w *walk) expr(x, y api.Expr) string {
 
 // same asks that two expressions are the same, but for the lets around their parts.
 func (w *walk) same(x, y api.Expr) string {
-	if y.Kind != x.Kind || y.Pos != x.Pos || y.Name != x.Name || y.Int != x.Int || !slices.Equal(y.Names, x.Names) || len(y.Args) != len(x.Args) || len(y.Alts) != len(x.Alts) {
+	if !made.EqualOuter(x, y) {
 		return show.Expr(y) + " isn't " + show.Expr(x)
 	}
-	for i, a := range x.Args {
-		if wrong := w.expr(a, y.Args[i]); wrong != "" {
-			return wrong
-		}
-	}
-	for i, a := range x.Alts {
-		if !made.EqualPats(a.Pat, y.Alts[i].Pat) {
-			return "the pattern " + show.Pat(y.Alts[i].Pat) + " isn't " + show.Pat(a.Pat)
-		}
-		if wrong := w.expr(a.Body, y.Alts[i].Body); wrong != "" {
+	list := made.Inner(y)
+	for i, a := range made.Inner(x) {
+		if wrong := w.expr(a, list[i]); wrong != "" {
 			return wrong
 		}
 	}

@@ -36,7 +36,7 @@ func parsed(t *testing.T, s string) api.Program {
 func checkFlat(t *testing.T, p api.Program) api.Program {
 	t.Helper()
 	q, wrong := words.Again(p, flat.Program)
-	for _, wrong := range []string{wrong, heads(p, q), names(p, q), shapes(q), sizes(p, q)} {
+	for _, wrong := range []string{wrong, words.OtherHeads(p, q), names(p, q), shapes(q), sizes(p, q)} {
 		if wrong != "" {
 			t.Fatalf("%sbecame\n%s%s", made.Brief(p), made.Brief(q), wrong)
 		}

@@ -13,22 +13,6 @@ import (
 
 // The document's words: each of these answers what is wrong in what came of a program, or nothing.
 
-// heads asks that types and definitions are the same, but for the bodies.
-func heads(p, q api.Program) string {
-	if !made.EqualTypes(p, q) {
-		return "other types"
-	}
-	if len(q.Defs) != len(p.Defs) {
-		return "other definitions"
-	}
-	for i, d := range q.Defs {
-		if was := p.Defs[i]; d.Name != was.Name || !slices.Equal(d.Params, was.Params) {
-			return fmt.Sprint("another definition at ", i)
-		}
-	}
-	return ""
-}
-
 // names asks that all names hold, and that the new ones are such as no text has.
 func names(p, q api.Program) string {
 	if pos, e := scope.Check(q); pos != -1 || e != api.OK {

@@ -30,12 +30,24 @@ func equalFields(t, u api.TypeE) bool {
 
 // EqualExprs tells likewise of expressions.
 func EqualExprs(x, y api.Expr) bool {
-	return x.Kind == y.Kind && x.Pos == y.Pos && x.Name == y.Name && x.Int == y.Int && slices.Equal(x.Names, y.Names) && slices.EqualFunc(x.Args, y.Args, EqualExprs) && slices.EqualFunc(x.Alts, y.Alts, func(a, b api.Alt) bool {
-		return EqualPats(a.Pat, b.Pat) && EqualExprs(a.Body, b.Body)
-	})
+	return EqualOuter(x, y) && slices.EqualFunc(x.Args, y.Args, EqualExprs) && slices.EqualFunc(x.Alts, y.Alts, func(a, b api.Alt) bool { return EqualExprs(a.Body, b.Body) })
+}
+
+// EqualOuter tells whether two expressions are the same, but for those that stand in them, of which they have as many.
+func EqualOuter(x, y api.Expr) bool {
+	return x.Kind == y.Kind && x.Pos == y.Pos && x.Name == y.Name && x.Int == y.Int && slices.Equal(x.Names, y.Names) && len(x.Args) == len(y.Args) && slices.EqualFunc(x.Alts, y.Alts, func(a, b api.Alt) bool { return EqualPats(a.Pat, b.Pat) })
 }
 
 // EqualPats tells likewise of patterns.
 func EqualPats(p, q api.Pat) bool {
 	return p.Kind == q.Kind && p.Pos == q.Pos && p.Name == q.Name && p.Int == q.Int && slices.EqualFunc(p.Args, q.Args, EqualPats)
+}
+
+// EqualOutcomes tells likewise of outcomes.
+func EqualOutcomes(a, b api.Outcome) bool {
+	return a.Error == b.Error && a.Pos == b.Pos && equalTrees(a.Tree, b.Tree)
+}
+
+func equalTrees(a, b api.Tree) bool {
+	return a.Name == b.Name && a.Int == b.Int && a.Re == b.Re && a.Im == b.Im && slices.EqualFunc(a.Args, b.Args, equalTrees)
 }

@@ -1,6 +1,10 @@
 package made
 
-import "reverie/api"
+import (
+	"slices"
+
+	"reverie/api"
+)
 
 // Each goes through an expression and all in it, with the patterns, from outside in, from left to right.
 func Each(x api.Expr, expr func(api.Expr), pat func(api.Pat)) {
@@ -12,6 +16,15 @@ func Each(x api.Expr, expr func(api.Expr), pat func(api.Pat)) {
 		EachPat(a.Pat, pat)
 		Each(a.Body, expr, pat)
 	}
+}
+
+// Inner are the expressions that stand in another one, not within each other.
+func Inner(x api.Expr) []api.Expr {
+	list := slices.Clone(x.Args)
+	for _, a := range x.Alts {
+		list = append(list, a.Body)
+	}
+	return list
 }
 
 // EachPat goes through a pattern and all in it.

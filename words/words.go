@@ -58,7 +58,10 @@ func isFlat(x api.Expr) bool {
 
 // Outcome is layer 9's, as a text.
 func Outcome(p api.Program, fuel int) string {
-	out := sense.Run(p, fuel)
+	return textOf(sense.Run(p, fuel))
+}
+
+func textOf(out api.Outcome) string {
 	if out.Error != api.OK {
 		return plain.ErrorText(out.Error)
 	}
