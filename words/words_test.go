@@ -127,3 +127,50 @@ func TestCalls(t *testing.T) {
 		}
 	}
 }
+
+func TestNoNames(t *testing.T) {
+	for body, have := range map[string]bool{
+		"1": true, "(x 1 x)": true, "(P 1 x)": true, "(g (g x))": false, "((g x) x)": false, "(P 1 (g x))": false, "(g (fn (y) y))": false, "(+ (g x) 1)": true, "(let ((y (g x))) (g y))": true, "(let ((y (g (P 1 2)))) y)": false, "(case (g x) ((P a b) (a b)) (_ (g (+ 1 2))))": false, "(fn (y) (g (g y)))": false,
+	} {
+		if wrong := words.NoNames(named(t, "(def f (x) "+body+")")); (wrong == "") != have {
+			t.Errorf("%s: %q", body, wrong)
+		}
+	}
+}
+
+// TestOtherHeads turns all that a program has but bodies.
+func TestOtherHeads(t *testing.T) {
+	p := named(t, "(def f (a b) (a b))")
+	for i, turn := range []func(*api.Program){
+		func(q *api.Program) {}, func(q *api.Program) { q.Defs[2].Body = api.Expr{} },
+		func(q *api.Program) { q.Datas[0].Name = "Q" }, func(q *api.Program) { q.Defs[2].Name = "k" }, func(q *api.Program) { q.Defs[2].Params[1] = "c" }, func(q *api.Program) { q.Defs[2].Pos++ }, func(q *api.Program) { q.Defs = q.Defs[:2] }, func(q *api.Program) { slices.Reverse(q.Defs) },
+	} {
+		q := made.Copied(p)
+		turn(&q)
+		if wrong := words.OtherHeads(p, q); (wrong == "") != (i < 2) {
+			t.Errorf("turn %d: %q", i, wrong)
+		}
+	}
+}
+
+// TestSteps has programs with the outcome of (g 1), that is 1, or with another one, and with as many steps as that, or more.
+func TestSteps(t *testing.T) {
+	program := func(s string) api.Program {
+		p, wrong := made.Named("(data P (a b) (P a b)) (def g (x) x) (def main () " + s + ")")
+		if wrong != "" {
+			t.Fatal(wrong)
+		}
+		return p
+	}
+	for s, least := range map[string]int{"(g 1)": 1, "1": 1, "(g (g 1))": 2, "(g (g (g (g 1))))": 3, "(g 2)": 0, "(/ 1 0)": 0, "(P 1 1)": 0} {
+		for times := range 4 {
+			outcome, wrong := words.Steps(program("(g 1)"), program(s), times+1, 100)
+			if right := least > 0 && times+1 >= least; outcome != "1" || (wrong == "") != right {
+				t.Errorf("%s, in %d times as many steps: %q %q", s, times+1, outcome, wrong)
+			}
+		}
+	}
+	if outcome, wrong := words.Steps(program("(g 1)"), program("2"), 1, 3); outcome != "" || wrong != "" {
+		t.Error("in too few words:", outcome, wrong)
+	}
+}
